@@ -1,0 +1,1 @@
+"""Orders rung from a bridge to an engine room, by two logs."""

@@ -1,0 +1,36 @@
+"""The interface: where each name is defined, and by which names its arguments are handed in (2)."""
+
+import importlib
+import inspect
+import unittest
+
+FUNCTIONS = {
+    "things": {"is_minute": "(thing)", "is_order": "(thing)", "is_name": "(thing)"},
+    "rows": {"is_row": "(thing)", "row_of": "(thing)", "sent_from": "(line)", "dial_of": "(engine)"},
+    "logs": {"is_log": "(thing)", "log_of": "(rows)", "rows_on": "(log, line)",
+             "rows_between": "(log, first=0, last=99999)"},
+    "standing": {"standing": "(log, line, minute, none=None)", "steps": "(log, line)"},
+}
+
+ERRORS = ("RingError", "NoLog", "NoPair", "NoCard", "NoStretch", "NoRow", "Taken", "NoText", "NoLine", "Unknown",
+          "NoNumber", "Nothing", "Full", "Late")
+
+
+class Interface(unittest.TestCase):
+    def test_functions(self):
+        for module, functions in FUNCTIONS.items():
+            for name, arguments in functions.items():
+                function = getattr(importlib.import_module("ringorders." + module), name)
+                self.assertTrue(inspect.isfunction(function), name)
+                self.assertEqual(function.__module__, "ringorders." + module)
+                self.assertEqual(str(inspect.signature(function)), arguments, name)
+
+    def test_errors(self):
+        errors = importlib.import_module("ringorders.errors")
+        for name in ERRORS:
+            self.assertTrue(inspect.isclass(getattr(errors, name)), name)
+            self.assertEqual(getattr(errors, name).__module__, "ringorders.errors")
+
+
+if __name__ == "__main__":
+    unittest.main()
