@@ -53,3 +53,30 @@ def each_way(function, values, names):
     by_name = dict(zip(names, values))
     other_way = {name: by_name[name] for name in reversed(names)}
     return [function(*values), function(**by_name), function(**other_way)]
+
+
+def fits_by_words(bridge, room, pair, d, lag):
+    """Whether a pair fits d, by the document's words: what was sent came 0 to lag minutes later."""
+    (on_bridge, line, _), in_room = bridge[pair[0]], room[pair[1]][0] - d
+    sent, came = (on_bridge, in_room) if line in ("port", "star", "down") else (in_room, on_bridge)
+    return 0 <= came - sent <= lag
+
+
+def pairs_by_words(bridge, room):
+    """All pairs, by the document's words."""
+    return [(b, r) for b, one in enumerate(bridge) for r, other in enumerate(room)
+            if one[1] == other[1] and one[2] == other[2]]
+
+
+def clash_by_words(bridge, room, one, other, lag, low, high):
+    """Why two pairs clash, by the document's words: each difference of the stretch taken one by one."""
+    if one == other:
+        return None
+    if one[0] == other[0] or one[1] == other[1]:
+        return "row"
+    if bridge[one[0]][1] == bridge[other[0]][1] and sorted([one, other]) != sorted([one, other], key=lambda p: p[1]):
+        return "order"
+    for d in range(low, high + 1):
+        if fits_by_words(bridge, room, one, d, lag) and fits_by_words(bridge, room, other, d, lag):
+            return None
+    return "clocks"

@@ -10,6 +10,13 @@ FUNCTIONS = {
     "logs": {"is_log": "(thing)", "log_of": "(rows)", "rows_on": "(log, line)",
              "rows_between": "(log, first=0, last=99999)"},
     "standing": {"standing": "(log, line, minute, none=None)", "steps": "(log, line)"},
+    "apart": {"apart": "(bridge, room, engine, d=0, first=0, last=100000)"},
+    "answers": {"answers": "(log, engine)", "wrong_answers": "(log, engine)"},
+    "pairs": {"is_pair": "(bridge, room, thing)", "span": "(bridge, room, pair, lag=0)",
+              "pairs_at": "(bridge, room, d=0, lag=0)"},
+    "clashes": {"clash": "(bridge, room, one, other, lag=0, low=0, high=0)"},
+    "sharings": {"greatest": "(bridge, room, pairs, d=0, lag=0)", "sharing": "(bridge, room, pairs, d=0, lag=0)",
+                 "is_sharing": "(bridge, room, pairs, thing, lag=0, low=0, high=0)"},
 }
 
 ERRORS = ("RingError", "NoLog", "NoPair", "NoCard", "NoStretch", "NoRow", "Taken", "NoText", "NoLine", "Unknown",
