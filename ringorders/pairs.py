@@ -15,6 +15,13 @@ def is_pair(bridge, room, thing):
     return bridge[b][1:] == room[r][1:]
 
 
+def is_rising(bridge, room, thing):
+    """Tell whether a thing is a rising list of pairs."""
+    if not isinstance(thing, list) or not all([is_pair(bridge, room, pair) for pair in thing]):
+        return False
+    return all([one < other for one, other in zip(thing, thing[1:])])
+
+
 def is_number_in(log, thing):
     """Tell whether a thing is the number of a row of a log."""
     return is_whole(thing) and 0 <= thing < len(log)
@@ -36,6 +43,12 @@ def fits(bridge, room, pair, d, lag):
     """Tell whether a pair fits a difference of the clocks."""
     least, greatest = span(bridge, room, pair, lag)
     return least <= d <= greatest
+
+
+def refuse_unfit(bridge, room, thing, d, lag):
+    """Refuse what is no pair that fits a difference of the clocks."""
+    if not is_pair(bridge, room, thing) or not fits(bridge, room, thing, d, lag):
+        raise NoPair("this is no pair that fits")
 
 
 def all_pairs(bridge, room):

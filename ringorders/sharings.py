@@ -1,7 +1,7 @@
 """Crowds of pairs that clash, sharings of pairs into crowds, and the greatest joinings that these show."""
 
 from ringorders.clashes import rows_clash, span_within
-from ringorders.pairs import is_pair
+from ringorders.pairs import is_rising
 
 
 def greatest(bridge, room, pairs, d=0, lag=0):
@@ -25,19 +25,26 @@ def levels_by_line(bridge, pairs):
     # No clocks are asked: two pairs that fit the same d clash by their rows or not at all.
     lines = {}
     for pair in pairs:
-        line = bridge[pair[0]][1]
-        put_in(lines.setdefault(line, []), pair)
-    return list(lines.values())
+        lines.setdefault(bridge[pair[0]][1], []).append(pair)
+    return [levels_of(on_line) for on_line in lines.values()]
 
 
-def put_in(levels, pair):
-    """Put a pair of a line in the first of its crowds in which none leads it."""
-    level = 0
-    while level < len(levels) and any([leads(held, pair) for held in levels[level]]):
-        level += 1
-    if level == len(levels):
-        levels.append([])
-    levels[level].append(pair)
+def levels_of(pairs):
+    """Put each pair of a line in the first of its crowds in which none leads it."""
+    levels = []
+    lowest = []
+    # Of the pairs of one bridge's row the last goes first, so that what was put ahead of a pair leads it
+    # just where it has a lesser row of the room's; of each crowd the least of these is enough.
+    for pair in sorted(pairs, key=lambda placed: (placed[0], -placed[1])):
+        level = 0
+        while level < len(levels) and lowest[level] < pair[1]:
+            level += 1
+        if level == len(levels):
+            levels.append([])
+            lowest.append(pair[1])
+        levels[level].append(pair)
+        lowest[level] = pair[1]
+    return [sorted(crowd) for crowd in levels]
 
 
 def leads(one, other):
@@ -65,12 +72,9 @@ def is_sharing(bridge, room, pairs, thing, lag=0, low=0, high=0):
 
 def is_crowd(bridge, room, thing, lag, low, high):
     """Tell whether a thing is a crowd of pairs, in a stretch of differences."""
-    if not isinstance(thing, list) or not thing:
+    if not is_rising(bridge, room, thing):
         return False
-    if not all([is_pair(bridge, room, pair) for pair in thing]):
-        return False
-    rising = all([one < other for one, other in zip(thing, thing[1:])])
-    return rising and each_two_clash(bridge, room, thing, lag, low, high)
+    return len(thing) > 0 and each_two_clash(bridge, room, thing, lag, low, high)
 
 
 def each_two_clash(bridge, room, crowd, lag, low, high):
