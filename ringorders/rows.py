@@ -40,3 +40,8 @@ def sent_from(line):
 def dial_of(engine):
     """Tell the dial of an engine."""
     return DIALS[engine]
+
+
+def is_bell(line):
+    """Tell whether a line is a bell."""
+    return line in DIALS

@@ -25,6 +25,12 @@ FUNCTIONS = {
               "shows": "(bridge, room, pair, word, thing, d=0, lag=0)"},
     "inorder": {"in_order": "(bridge, room, pairs)", "is_in_order": "(bridge, room, pairs, thing)",
                 "is_round": "(bridge, room, pairs, thing)"},
+    "lots": {"missed": "(bridge, room, joining)", "strange": "(bridge, room, joining, d=0, lag=0)",
+             "lot": "(bridge, room, joining)"},
+    "rings": {"ring_of": "(bridge, room, joining, number)", "obeyed": "(bridge, room, joining, number, d=0)"},
+    "turns": {"is_table": "(thing)", "turns": "(log, engine, table, first, last, idle=0)"},
+    "ships": {"heading": "(swing, step=45)", "sail": "(ship, port, star, minutes, step=45)"},
+    "courses": {"course": "(log, table, ship, first, last, d=0, step=45)"},
     "sharings": {"greatest": "(bridge, room, pairs, d=0, lag=0)", "sharing": "(bridge, room, pairs, d=0, lag=0)",
                  "is_sharing": "(bridge, room, pairs, thing, lag=0, low=0, high=0)"},
 }
