@@ -3,7 +3,7 @@
 from ringorders.errors import NoPair
 from ringorders.joinings import is_loose
 from ringorders.pairs import is_pair
-from ringorders.rows import sent_from
+from ringorders.rows import is_house, sent_from
 from ringorders.things import is_whole
 
 
@@ -70,7 +70,7 @@ def is_place(thing):
     if not isinstance(thing, tuple) or len(thing) != 2:
         return False
     house, number = thing
-    return isinstance(house, str) and house in ("bridge", "room") and is_whole(number)
+    return is_house(house) and is_whole(number)
 
 
 def numbers_of(house, places):

@@ -6,6 +6,7 @@ from ringorders.things import is_minute, is_name, is_order
 SENDERS = {"port": "bridge", "star": "bridge", "down": "bridge", "aport": "room", "astar": "room", "up": "room"}
 DIALS = {"port": "aport", "star": "astar"}
 TUBES = ("down", "up")
+HOUSES = ("bridge", "room")
 
 
 def is_row(thing):
@@ -18,8 +19,7 @@ def makes_row(thing):
     if not isinstance(thing, (list, tuple)) or len(thing) != 3:
         return False
     minute, line, what = thing
-    # A list or a dict can't be looked up in a dict at all.
-    if not isinstance(line, str) or line not in SENDERS:
+    if not is_line(line):
         return False
     borne = is_name(what) if line in TUBES else is_order(what)
     return borne and is_minute(minute)
@@ -42,6 +42,17 @@ def dial_of(engine):
     return DIALS[engine]
 
 
-def is_bell(line):
-    """Tell whether a line is a bell."""
-    return line in DIALS
+def is_line(thing):
+    """Tell whether a thing is one of the six lines."""
+    # A list or a dict can't be looked up in a dict at all.
+    return isinstance(thing, str) and thing in SENDERS
+
+
+def is_bell(thing):
+    """Tell whether a thing is a bell, which is called as its engine."""
+    return isinstance(thing, str) and thing in DIALS
+
+
+def is_house(thing):
+    """Tell whether a thing is one of the two houses."""
+    return isinstance(thing, str) and thing in HOUSES

@@ -19,7 +19,8 @@ def sail(ship, port, star, minutes, step=45):
     circle = len(HEADINGS) * step
     many = circle // gcd(veer, circle)
     rounds, left = divmod(minutes, many)
-    round_x, round_y = way(swing, veer, many, step)
+    # Of few minutes there is no whole round, and its way needn't be gone.
+    round_x, round_y = way(swing, veer, many if rounds != 0 else 0, step)
     left_x, left_y = way(swing, veer, left, step)
     made = port + star
     return (x + made * (rounds * round_x + left_x), y + made * (rounds * round_y + left_y), swing + minutes * veer)

@@ -24,7 +24,12 @@ def turns(log, engine, table, first, last, idle=0):
 def turns_at(log, engine, table, minute, idle=0):
     """Tell the turns of an engine in the minute that begins at one; idle ones where no order stands."""
     order = standing(log, engine, minute)
-    return idle if order is None else table[order - FULL_ASTERN]
+    return idle if order is None else turns_by(table, order)
+
+
+def turns_by(table, order):
+    """Tell the turns a minute by an order."""
+    return table[order - FULL_ASTERN]
 
 
 def unchanged(log, first, last):

@@ -180,3 +180,90 @@ def otherwise(thing):
 def alike(one, other):
     """Whether two things are alike to their kinds: no truth is like a number, no list like a tuple."""
     return repr(one) == repr(other)
+
+
+ALONG = [(0, 1), (1, 1), (1, 0), (1, -1), (0, -1), (-1, -1), (-1, 0), (-1, 1)]
+TABLE = (-90, -70, -50, -30, 0, 40, 60, 80, 100)
+
+
+def minute_by_words(ship, port, star, step):
+    """Where a ship is behind a minute of these turns, by the document's words."""
+    x, y, swing = ship
+    along = ALONG[(swing // step) % 8]
+    return (x + (port + star) * along[0], y + (port + star) * along[1], swing + port - star)
+
+
+def order_by_words(log, engine, minute):
+    """What stands on an engine at a minute, by the document's words; None where none stands."""
+    rung = [what for when, line, what in log if line == engine and when <= minute]
+    return rung[-1] if rung else None
+
+
+def ships_by_words(log, table, ship, first, last, d, step):
+    """Where a ship is at each minute from first to last, minute by minute."""
+    ships = [ship]
+    for minute in range(first, last):
+        orders = [order_by_words(log, engine, minute + d) for engine in ("port", "star")]
+        port, star = (0 if order is None else table[order + 4] for order in orders)
+        ships.append(minute_by_words(ships[-1], port, star, step))
+    return ships
+
+
+def random_table(chance):
+    """A table, by chance: often with turns alike, so that a ship goes straight ahead, or on the spot."""
+    return tuple(chance.choice([-chance.randint(0, 999), chance.randint(0, 999), -7, 0, 7]) for _ in range(9))
+
+
+def random_card(chance, deep=4, most=3):
+    """A card at most so deep, by chance, with few times and short waits."""
+    kind = chance.choice(["ring", "ring", "wait", "row", "again"] if deep > 1 else ["ring", "wait", "wait"])
+    if kind == "ring":
+        return ("ring", chance.choice(["port", "star"]), chance.randint(-4, 4))
+    if kind == "wait":
+        return ("wait", chance.randint(1, 9))
+    if kind == "row":
+        return ("row", tuple(random_card(chance, deep - 1, most) for _ in range(chance.randint(0, most))))
+    return ("again", chance.randint(0, 3), random_card(chance, deep - 1, most))
+
+
+def deeds_by_words(card):
+    """What is done while a card is played: (engine, order) of each ring, None of each minute that passes."""
+    kind = card[0]
+    if kind == "ring":
+        return [card[1:]]
+    if kind == "wait":
+        return [None] * card[1]
+    if kind == "row":
+        return [deed for part in card[1] for deed in deeds_by_words(part)]
+    return deeds_by_words(card[2]) * card[1]
+
+
+def is_card_by_words(thing, deep=6):
+    """Whether a thing is a card, by the document's words."""
+    return deep_by_words(thing) <= deep and many_by_words(thing) <= 30
+
+
+def parts_by_words(thing):
+    """The cards that ought to stand within a thing, None of what can't be a card whatever they are."""
+    if type(thing) is not tuple or not thing or type(thing[0]) is not str:
+        return None
+    if thing[0] == "ring" and len(thing) == 3 and type(thing[1]) is str and thing[1] in ("port", "star"):
+        return [] if is_whole(thing[2]) and -4 <= thing[2] <= 4 else None
+    if thing[0] == "wait" and len(thing) == 2:
+        return [] if is_whole(thing[1]) and 1 <= thing[1] <= 999 else None
+    if thing[0] == "row" and len(thing) == 2:
+        return list(thing[1]) if type(thing[1]) is tuple and len(thing[1]) <= 6 else None
+    if thing[0] == "again" and len(thing) == 3:
+        return [thing[2]] if is_whole(thing[1]) and 0 <= thing[1] <= 10 ** 9 else None
+    return None
+
+
+def deep_by_words(thing):
+    """How deep a card is; a hundred where there is something within that is none."""
+    parts = parts_by_words(thing)
+    return 100 if parts is None else 1 + max([deep_by_words(part) for part in parts], default=0)
+
+
+def many_by_words(thing):
+    """How many cards there are in a card, itself and those within."""
+    return 1 + sum(many_by_words(part) for part in parts_by_words(thing) or [])

@@ -3,30 +3,16 @@
 import unittest
 
 from ringorders.courses import course
-from tests.helper import chances, each_way, random_log
+from tests.helper import TABLE, chances, each_way, random_log, ships_by_words
 
-ALONG = [(0, 1), (1, 1), (1, 0), (1, -1), (0, -1), (-1, -1), (-1, 0), (-1, 1)]
-TABLE = (-90, -70, -50, -30, 0, 40, 60, 80, 100)
 LOG = ((2, "port", 1), (2, "star", 1), (5, "star", 0), (5, "aport", 4), (6, "port", 4), (6, "port", 0), (9, "star", -1))
 FAR = 10 ** 30 - 1
 NAMES = ["log", "table", "ship", "first", "last", "d", "step"]
 
 
-def order_at(log, engine, minute):
-    """What stands on an engine at a minute, by the document's words; None where none stands."""
-    rung = [what for when, line, what in log if line == engine and when <= minute]
-    return rung[-1] if rung else None
-
-
 def by_minutes(log, table, ship, first, last, d, step):
-    """Where a ship is, minute by minute."""
-    x, y, swing = ship
-    for minute in range(first, last):
-        orders = [order_at(log, engine, minute + d) for engine in ("port", "star")]
-        port, star = (0 if order is None else table[order + 4] for order in orders)
-        along = ALONG[(swing // step) % 8]
-        x, y, swing = x + (port + star) * along[0], y + (port + star) * along[1], swing + port - star
-    return (x, y, swing)
+    """Where a ship is at last, minute by minute."""
+    return ships_by_words(log, table, ship, first, last, d, step)[-1]
 
 
 class Course(unittest.TestCase):

@@ -31,8 +31,20 @@ FUNCTIONS = {
     "turns": {"is_table": "(thing)", "turns": "(log, engine, table, first, last, idle=0)"},
     "ships": {"heading": "(swing, step=45)", "sail": "(ship, port, star, minutes, step=45)"},
     "courses": {"course": "(log, table, ship, first, last, d=0, step=45)"},
+    "partings": {"partings": "(bridge, room, table, ship, first, last, d=0, step=45)",
+                 "farthest": "(bridge, room, table, ship, first, last, d=0, step=45)"},
+    "cards": {"is_card": "(thing)", "minutes_of": "(card)"},
+    "effects": {"effect": "(card, table, orders, step=6)", "played": "(card, table, orders, ship, step=6)"},
+    "written": {"written_out": "(card, minute=0)"},
     "sharings": {"greatest": "(bridge, room, pairs, d=0, lag=0)", "sharing": "(bridge, room, pairs, d=0, lag=0)",
                  "is_sharing": "(bridge, room, pairs, thing, lag=0, low=0, high=0)"},
+}
+
+CLASSES = {
+    ("watch", "Watch"): {"__init__": "(self, lag=0, low=0, high=0)", "tell": "(self, house, number, row)",
+                         "drop": "(self, house, number)", "back": "(self)", "again": "(self)", "log": "(self, house)",
+                         "best": "(self)", "lot": "(self)", "ask": "(self, number)", "forget": "(self, number)",
+                         "asked": "(self)", "twin": "(self)"},
 }
 
 ERRORS = ("RingError", "NoLog", "NoPair", "NoCard", "NoStretch", "NoRow", "Taken", "NoText", "NoLine", "Unknown",
@@ -47,6 +59,14 @@ class Interface(unittest.TestCase):
                 self.assertTrue(inspect.isfunction(function), name)
                 self.assertEqual(function.__module__, "ringorders." + module)
                 self.assertEqual(str(inspect.signature(function)), arguments, name)
+
+    def test_classes_and_their_own_methods(self):
+        for (module, name), methods in CLASSES.items():
+            made = getattr(importlib.import_module("ringorders." + module), name)
+            self.assertTrue(inspect.isclass(made), name)
+            self.assertEqual(made.__module__, "ringorders." + module)
+            for method, arguments in methods.items():
+                self.assertEqual(str(inspect.signature(vars(made)[method])), arguments, method)
 
     def test_errors(self):
         errors = importlib.import_module("ringorders.errors")
