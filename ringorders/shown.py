@@ -21,11 +21,16 @@ def shown(bridge, room, pair, d=0, lag=0):
 def shows(bridge, room, pair, word, thing, d=0, lag=0):
     """Tell whether a thing is a sharing that shows that all have a pair, or that none has it."""
     refuse_unfit(bridge, room, pair, d, lag)
-    if not isinstance(word, str) or word not in FEWER:
+    if not is_shown(word):
         return False
     if not is_sharing(bridge, room, others_for(word, bridge, room, pair, d, lag), thing, lag, d, d):
         return False
     return len(thing) <= most_crowds(word, bridge, room, d, lag)
+
+
+def is_shown(thing):
+    """Tell whether a thing is a word that can be shown of a pair."""
+    return isinstance(thing, str) and thing in FEWER
 
 
 def others_for(word, bridge, room, pair, d, lag):

@@ -1,6 +1,7 @@
 """Stretches of differences of the clocks, the pairs that fit some of them, and the pieces in which these stay."""
 
 from ringorders.clashes import span_within
+from ringorders.errors import NoPair
 from ringorders.pairs import all_pairs
 from ringorders.things import is_whole
 
@@ -9,6 +10,14 @@ def spans_in(bridge, room, lag, low, high):
     """Tell (pair, least, greatest) of all pairs that fit some difference of a stretch, by those of it that they fit."""
     spans = [(pair,) + span_within(bridge, room, pair, lag, low, high) for pair in all_pairs(bridge, room)]
     return [(pair, least, most) for pair, least, most in spans if least <= most]
+
+
+def refuse_misfit(bridge, room, thing, lag, low, high):
+    """Refuse what is no pair that fits some difference of a stretch."""
+    # What is no pair at all is refused with its span.
+    least, most = span_within(bridge, room, thing, lag, low, high)
+    if least > most:
+        raise NoPair("this is no pair that fits")
 
 
 def pairs_in(spans, low, high):

@@ -8,8 +8,13 @@ from ringorders.sharings import greatest, leads, levels_by_line
 
 def sure_words(bridge, room, d=0, lag=0):
     """Tell (pair, word) of each pair that fits a difference."""
+    return words_among(bridge, pairs_at(bridge, room, d, lag))
+
+
+def words_among(bridge, pairs):
+    """Tell (pair, word) of each of some pairs, which are all that fit a difference."""
     words = []
-    for levels in levels_by_line(bridge, pairs_at(bridge, room, d, lag)):
+    for levels in levels_by_line(bridge, pairs):
         words.extend(words_of(levels))
     return sorted(words)
 

@@ -267,3 +267,16 @@ def deep_by_words(thing):
 def many_by_words(thing):
     """How many cards there are in a card, itself and those within."""
     return 1 + sum(many_by_words(part) for part in parts_by_words(thing) or [])
+
+
+def best_by_words(bridge, room, lag, low, high):
+    """All the best joinings of a stretch, as (d, joining), by a search through all differences and all choices."""
+    found = [(d, joined) for d in range(low, high + 1) for joined in greatest_by_words(bridge, room, d, lag)]
+    most = max(len(joined) for _, joined in found)
+    return [(d, joined) for d, joined in found if len(joined) == most]
+
+
+def word_by_words(found, pair):
+    """Whether all, some or none of these (d, joining) have a pair."""
+    have = [pair in joined for _, joined in found]
+    return "all" if all(have) else "some" if any(have) else "none"

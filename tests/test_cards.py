@@ -41,12 +41,12 @@ class IsCard(unittest.TestCase):
             self.assertIs(is_card(card), True, card)
 
     def test_rings(self):
-        for card in (("ring", "port", 5), ("ring", "port", -5), ("ring", "aport", 1), ("ring", "down", 1), ("ring", "", 1),
-                     ("ring", None, 1), ("ring", "port", None), ("ring", "port", "1"), ("ring", "port", True),
-                     ("ring", "port", False), ("ring", "port"), ("ring", "port", 1, 1), ("ring",), ("Ring", "port", 1),
-                     ["ring", "port", 1], ("ring", ["port"], 1), ("ring", "port", [1]), ("ring", "port", (1,)),
-                     ("ring", {}, 1), ("ring", "port", {}), ("ring", "port", 10 ** 99), (None, "port", 1),
-                     ("bell", "port", 1), (("ring",), "port", 1), ("ring", ("port", 1))):
+        for card in (("ring", "port", 5), ("ring", "port", -5), ("ring", "aport", 1), ("ring", "down", 1),
+                     ("ring", "", 1), ("ring", None, 1), ("ring", "port", None), ("ring", "port", "1"),
+                     ("ring", "port", True), ("ring", "port", False), ("ring", "port"), ("ring", "port", 1, 1),
+                     ("ring",), ("Ring", "port", 1), ["ring", "port", 1], ("ring", ["port"], 1), ("ring", "port", [1]),
+                     ("ring", "port", (1,)), ("ring", {}, 1), ("ring", "port", {}), ("ring", "port", 10 ** 99),
+                     (None, "port", 1), ("bell", "port", 1), (("ring",), "port", 1), ("ring", ("port", 1))):
             self.assertIs(is_card(card), False, card)
 
     def test_waits(self):
@@ -72,8 +72,9 @@ class IsCard(unittest.TestCase):
             self.assertIs(is_card(("again", many, WAIT)), True)
         for many in (-1, 10 ** 9 + 1, 10 ** 99, True, False, None, "3", [3], (3,), {}):
             self.assertIs(is_card(("again", many, WAIT)), False, many)
-        for card in (("again", 3), ("again", WAIT, 3), ("again", 3, WAIT, WAIT), ("again", 3, None), ("again", 3, (WAIT,)),
-                     ("again", 3, list(WAIT)), ["again", 3, WAIT], ("again", 0, None), ("again", 0, ("wait", 0))):
+        for card in (("again", 3), ("again", WAIT, 3), ("again", 3, WAIT, WAIT), ("again", 3, None),
+                     ("again", 3, (WAIT,)), ("again", 3, list(WAIT)), ["again", 3, WAIT], ("again", 0, None),
+                     ("again", 0, ("wait", 0))):
             self.assertIs(is_card(card), False, card)
 
     def test_six_deep_and_seven(self):
@@ -102,8 +103,9 @@ class IsCard(unittest.TestCase):
     def test_whatever_it_is(self):
         for thing in odd_things():
             self.assertIs(is_card(thing), False, thing)
-            for card in (("ring", thing, 1), ("ring", "port", thing), ("wait", thing), ("row", thing), ("again", thing, WAIT),
-                         ("again", 3, thing), (thing, 5), (thing, "port", 1), ("row", (WAIT, thing))):
+            for card in (("ring", thing, 1), ("ring", "port", thing), ("wait", thing), ("row", thing),
+                         ("again", thing, WAIT), ("again", 3, thing), (thing, 5), (thing, "port", 1),
+                         ("row", (WAIT, thing))):
                 self.assertIs(is_card(card), is_card_by_words(card), card)
 
     def test_a_great_heap_of_cards_in_ordinary_time(self):
@@ -145,7 +147,8 @@ class IsCard(unittest.TestCase):
 class MinutesOf(unittest.TestCase):
     def test_ordinary(self):
         for card, minutes in ((RING, 0), (WAIT, 5), (("wait", 999), 999), (EMPTY, 0), (MANOEUVRE, 15), (THIRTY, 125),
-                              (("row", (WAIT, RING, ("wait", 7))), 12), (("again", 0, WAIT), 0), (("again", 1, WAIT), 5)):
+                              (("row", (WAIT, RING, ("wait", 7))), 12), (("again", 0, WAIT), 0),
+                              (("again", 1, WAIT), 5)):
             self.assertEqual(minutes_of(card), minutes)
 
     def test_agains_within_one_another(self):

@@ -56,7 +56,8 @@ class Effect(unittest.TestCase):
         self.assertEqual(moves[0][2], 200)
 
     def test_a_ring(self):
-        for engine, order, behind_it in (("port", 3, (3, -1)), ("star", 3, (2, 3)), ("port", 2, (2, -1)), ("star", 0, (2, 0))):
+        for engine, order, behind_it in (("port", 3, (3, -1)), ("star", 3, (2, 3)), ("port", 2, (2, -1)),
+                                         ("star", 0, (2, 0))):
             for step in (1, 6, 12):
                 self.assertEqual(effect(("ring", engine, order), TABLE, (2, -1), step),
                                  (behind_it, 0, ((0, 0, 0),) * (8 * step)))
@@ -90,7 +91,8 @@ class Effect(unittest.TestCase):
         for port in range(-4, 5):
             for star in range(-4, 5):
                 for card in (WAIT, ("row", (("wait", 1), RING, ("wait", 2)))):
-                    self.assertEqual(effect(card, TABLE, (port, star), 3), effect_by_words(card, TABLE, (port, star), 3))
+                    self.assertEqual(effect(card, TABLE, (port, star), 3),
+                                     effect_by_words(card, TABLE, (port, star), 3))
 
     def test_a_card_that_rings_played_again(self):
         # Only the first time other orders stand ahead of the card.
@@ -203,7 +205,8 @@ class Played(unittest.TestCase):
             table, step = random_table(chance), chance.choice([1, 2, 6, 12])
             orders = (chance.randint(-4, 4), chance.randint(-4, 4))
             if is_card_by_words(card) and len(deeds_by_words(card)) < 900:
-                self.assertEqual(played(card, table, orders, ship, step), played_by_words(card, table, orders, ship, step))
+                self.assertEqual(played(card, table, orders, ship, step),
+                                 played_by_words(card, table, orders, ship, step))
 
     def test_agains_of_10_to_the_9th_in_ordinary_time(self):
         card = ("again", MOST, ("again", MOST, ("row", (("ring", "port", 1), ("ring", "star", 1), ("wait", 999)))))

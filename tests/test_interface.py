@@ -36,6 +36,15 @@ FUNCTIONS = {
     "cards": {"is_card": "(thing)", "minutes_of": "(card)"},
     "effects": {"effect": "(card, table, orders, step=6)", "played": "(card, table, orders, ship, step=6)"},
     "written": {"written_out": "(card, minute=0)"},
+    "texts": {"show_minute": "(minute)", "show_order": "(order)", "show_row": "(row)", "show_log": "(log)",
+              "show_card": "(card)"},
+    "reader": {"read_minute": "(text)", "read_order": "(text)", "read_row": "(text)", "read_log": "(text)",
+               "read_card": "(text)"},
+    "overall": {"over_words": "(bridge, room, lag=0, low=0, high=0)",
+                "over_with": "(bridge, room, pair, lag=0, low=0, high=0)",
+                "over_without": "(bridge, room, pair, lag=0, low=0, high=0)"},
+    "overshown": {"over_shown": "(bridge, room, pair, lag=0, low=0, high=0)",
+                  "over_shows": "(bridge, room, pair, word, thing, lag=0, low=0, high=0)"},
     "sharings": {"greatest": "(bridge, room, pairs, d=0, lag=0)", "sharing": "(bridge, room, pairs, d=0, lag=0)",
                  "is_sharing": "(bridge, room, pairs, thing, lag=0, low=0, high=0)"},
 }
@@ -45,6 +54,9 @@ CLASSES = {
                          "drop": "(self, house, number)", "back": "(self)", "again": "(self)", "log": "(self, house)",
                          "best": "(self)", "lot": "(self)", "ask": "(self, number)", "forget": "(self, number)",
                          "asked": "(self)", "twin": "(self)"},
+    ("logthing", "Log"): {"__init__": "(self, rows)", "rows": "(self)", "with_row": "(self, row)",
+                          "later": "(self, many)"},
+    ("desk", "Desk"): {"__init__": "(self, table, lag=0, low=0, high=0, step=45)", "say": "(self, line)"},
 }
 
 ERRORS = ("RingError", "NoLog", "NoPair", "NoCard", "NoStretch", "NoRow", "Taken", "NoText", "NoLine", "Unknown",

@@ -77,7 +77,8 @@ class Partings(unittest.TestCase):
         for many in (1, 2, 3):
             more = tuple((minute + 5 * at, line, what) for at in range(many) for minute, line, what in bridge)
             later = tuple((minute + 1, line, what) for minute, line, what in more)
-            self.assertEqual(partings(more, later, TABLE, SHIP, 0, 99), [(5 * at + 1, 5 * at + 1) for at in range(many)])
+            self.assertEqual(partings(more, later, TABLE, SHIP, 0, 99),
+                             [(5 * at + 1, 5 * at + 1) for at in range(many)])
 
     def test_by_swing_alone(self):
         table = (-4, -3, -2, -1, 0, 1, 2, 3, 4)

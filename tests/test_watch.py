@@ -17,8 +17,9 @@ class Making(unittest.TestCase):
 
     def test_no_stretch(self):
         for values in ((-1,), (61,), (0, 1, 0), (0, 0, 241), (0, -121, 120), (0, 1201, 1442), (0, 1441, 1441),
-                       (0, -1441, -1441), (0, -1440, 1440), (0, 1), (0, 0, -1), (0, 5, -5), (10 ** 99,), (0, -(10 ** 99), 0),
-                       (0, 0, 10 ** 99), (True,), (0, False), (0, 0, True), (0, False, False), (1, 0, True)):
+                       (0, -1441, -1441), (0, -1440, 1440), (0, 1), (0, 0, -1), (0, 5, -5), (10 ** 99,),
+                       (0, -(10 ** 99), 0), (0, 0, 10 ** 99), (True,), (0, False), (0, 0, True), (0, False, False),
+                       (1, 0, True)):
             with self.assertRaises(NoStretch, msg=values):
                 Watch(*values)
 
@@ -196,7 +197,8 @@ class Likeness(unittest.TestCase):
         for values in ((2, 0, 9), (1, 1, 9), (1, 0, 8)):
             self.assertFalse(one == watch_of(ROWS, *values))
             self.assertFalse(Watch(*values) == Watch(1, 0, 9))
-        for rows in (ROWS[1:], ROWS[:-1], ROWS[:-1] + [("room", 16, ROWS[-1][2])], ROWS[:-1] + [("room", 15, (13, "down", "dora"))],
+        for rows in (ROWS[1:], ROWS[:-1], ROWS[:-1] + [("room", 16, ROWS[-1][2])],
+                     ROWS[:-1] + [("room", 15, (13, "down", "dora"))],
                      ROWS[:5] + ROWS[6:] + [("room", 60, (12, "down", "dora"))]):
             self.assertFalse(one == watch_of(rows))
         self.assertFalse(watch_of([("bridge", 0, (0, "port", 1))]) == watch_of([("room", 0, (0, "port", 1))]))

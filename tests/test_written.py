@@ -34,7 +34,8 @@ class WrittenOut(unittest.TestCase):
     def test_ordinary(self):
         self.assertEqual(written_out(MANOEUVRE), ROWS)
         self.assertEqual(written_out(MANOEUVRE, 100), [(100, "port", 1), (105, "star", 1), (107, "port", 0)])
-        self.assertEqual(written_out(("again", 2, MANOEUVRE)), ROWS + [(7, "port", 1), (12, "star", 1), (14, "port", 0)])
+        twice = ROWS + [(7, "port", 1), (12, "star", 1), (14, "port", 0)]
+        self.assertEqual(written_out(("again", 2, MANOEUVRE)), twice)
         self.assertEqual(written_out(RING, 9), [(9, "port", 2)])
         self.assertTrue(all(type(row) is tuple for row in written_out(MANOEUVRE)))
 

@@ -4,7 +4,7 @@ from ringorders import counts
 from ringorders.errors import Full, Late, NoNumber, Nothing, Taken, Unknown
 from ringorders.rings import ring_of
 from ringorders.watch import Watch
-from tests.helper import alike, odd_things
+from tests.helper import odd_things
 
 # The room's clock shows three minutes more; the second ring was taken back, the third never heard, the last is open.
 ROWS = [("bridge", 10, (0, "port", 1)), ("bridge", 20, (1, "aport", 1)), ("bridge", 30, (5, "star", 2)),
@@ -13,7 +13,7 @@ ROWS = [("bridge", 10, (0, "port", 1)), ("bridge", 20, (1, "aport", 1)), ("bridg
         ("room", 11, (9, "star", 1)), ("room", 13, (12, "port", 3)), ("room", 15, (12, "down", "dora"))]
 ANSWERS = {10: ("answered", 5, 7, 20), 30: ("taken", 9, 11), 40: ("never",), 50: ("open", 13)}
 NO_HOUSES = odd_things() + ["Bridge", "ROOM", "bridge ", " room", "bridgeroom", ("bridge",), ["room"], {"bridge": 1}]
-NO_NUMBERS = [thing for thing in odd_things() if not alike(thing, 7)] + [-1, 1000, True, False, "7", (7,), [7], 10 ** 99]
+NO_NUMBERS = odd_things() + [-1, 1000, True, False, "7", (7,), [7], 10 ** 99]
 NO_ROWS = odd_things() + [(0, "port", 5), (0, "port"), (100000, "port", 1), (-1, "port", 1), (0, "Port", 1),
                           (0, "down", 1), (0, "port", "a"), (True, "port", 1), (0, "port", True), {0: 0, 1: 1, 2: 2},
                           (0, "down", "abcdefghi"), (0, "port", 1, 1), ((0, "port", 1),), "0 port 1", (0, ["port"], 1)]
